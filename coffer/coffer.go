@@ -3,6 +3,7 @@ package coffer
 
 import (
 	"coffer/api"
+	"coffer/pages"
 	"coffer/seal"
 )
 
@@ -46,10 +47,56 @@ func checkSizes(secret, nonce string) api.Errno {
 }
 
 // Pack makes a page of cells (P5).
-func Pack(kind int, cells []api.Cell) (string, api.Errno) { return "", api.OK }
+func Pack(kind int, cells []api.Cell) (string, api.Errno) {
+	if !isKind(kind) || !areCells(kind, cells) {
+		return "", api.ErrTable
+	}
+	return pages.Page(kind, cells), api.OK
+}
 
 // Unpack gives a page's cells (P6).
-func Unpack(kind int, page string) ([]api.Cell, api.Errno) { return nil, api.OK }
+func Unpack(kind int, page string) ([]api.Cell, api.Errno) {
+	if !isKind(kind) {
+		return nil, api.ErrPage
+	}
+	cells, ok := attempt(func() []api.Cell { return pages.Cells(kind, page) })
+	if !ok {
+		return nil, api.ErrPage
+	}
+	return cells, api.OK
+}
+
+func isKind(kind int) bool {
+	return kind == api.Ints || kind == api.Texts
+}
+
+func areCells(kind int, cells []api.Cell) bool {
+	if len(cells) > api.MaxRows {
+		return false
+	}
+	for _, cell := range cells {
+		if !isCell(kind, cell) {
+			return false
+		}
+	}
+	return true
+}
+
+func isCell(kind int, cell api.Cell) bool {
+	if cell.Null {
+		return cell.Int == 0 && cell.Text == ""
+	}
+	if kind == api.Ints {
+		return cell.Text == ""
+	}
+	return cell.Int == 0 && len(cell.Text) <= api.MaxText
+}
+
+// attempt catches what gives up inside by panic: false then, and nothing.
+func attempt[T any](work func() T) (out T, ok bool) {
+	defer func() { ok = recover() == nil }()
+	return work(), true
+}
 
 // Write makes the file of a table, and tells all that was sealed for it (P7).
 func Write(job api.Job, ring []api.Key) (string, []api.Sealed, api.Errno) { return "", nil, api.OK }
