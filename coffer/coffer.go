@@ -3,6 +3,8 @@ package coffer
 
 import (
 	"coffer/api"
+	"coffer/bounds"
+	"coffer/files"
 	"coffer/pages"
 	"coffer/seal"
 )
@@ -48,7 +50,7 @@ func checkSizes(secret, nonce string) api.Errno {
 
 // Pack makes a page of cells (P5).
 func Pack(kind int, cells []api.Cell) (string, api.Errno) {
-	if !isKind(kind) || !areCells(kind, cells) {
+	if !bounds.IsKind(kind) || !bounds.AreCells(kind, cells) {
 		return "", api.ErrTable
 	}
 	return pages.Page(kind, cells), api.OK
@@ -56,7 +58,7 @@ func Pack(kind int, cells []api.Cell) (string, api.Errno) {
 
 // Unpack gives a page's cells (P6).
 func Unpack(kind int, page string) ([]api.Cell, api.Errno) {
-	if !isKind(kind) {
+	if !bounds.IsKind(kind) {
 		return nil, api.ErrPage
 	}
 	cells, ok := attempt(func() []api.Cell { return pages.Cells(kind, page) })
@@ -66,32 +68,6 @@ func Unpack(kind int, page string) ([]api.Cell, api.Errno) {
 	return cells, api.OK
 }
 
-func isKind(kind int) bool {
-	return kind == api.Ints || kind == api.Texts
-}
-
-func areCells(kind int, cells []api.Cell) bool {
-	if len(cells) > api.MaxRows {
-		return false
-	}
-	for _, cell := range cells {
-		if !isCell(kind, cell) {
-			return false
-		}
-	}
-	return true
-}
-
-func isCell(kind int, cell api.Cell) bool {
-	if cell.Null {
-		return cell.Int == 0 && cell.Text == ""
-	}
-	if kind == api.Ints {
-		return cell.Text == ""
-	}
-	return cell.Int == 0 && len(cell.Text) <= api.MaxText
-}
-
 // attempt catches what gives up inside by panic: false then, and nothing.
 func attempt[T any](work func() T) (out T, ok bool) {
 	defer func() { ok = recover() == nil }()
@@ -99,7 +75,27 @@ func attempt[T any](work func() T) (out T, ok bool) {
 }
 
 // Write makes the file of a table, and tells all that was sealed for it (P7).
-func Write(job api.Job, ring []api.Key) (string, []api.Sealed, api.Errno) { return "", nil, api.OK }
+func Write(job api.Job, ring []api.Key) (string, []api.Sealed, api.Errno) {
+	if e := checkJob(job, ring); e != api.OK {
+		return "", nil, e
+	}
+	file, sealed := files.Write(job, ring)
+	return file, sealed, api.OK
+}
+
+func checkJob(job api.Job, ring []api.Key) api.Errno {
+	switch {
+	case !bounds.IsTable(job.Table):
+		return api.ErrTable
+	case !bounds.IsPlan(job.Plan) || !bounds.IsPrefix(job.Prefix) || !bounds.IsDraw(job.Draw):
+		return api.ErrPlan
+	case !bounds.IsRing(ring):
+		return api.ErrKey
+	case !files.HasKeys(job, ring):
+		return api.ErrNoKey
+	}
+	return api.OK
+}
 
 // Read reads a file (P8, P9).
 func Read(file, prefix string, ring []api.Key, trust bool) ([]api.Found, api.Errno) {

@@ -47,7 +47,7 @@ func (c codec[V]) page(cells []api.Cell) string {
 func (c codec[V]) shortest(values []V) string {
 	best := ""
 	for _, w := range c.ways {
-		written := wire.Join(string([]byte{w.number}), w.write(c, values))
+		written := wire.Join(wire.Byte(w.number), w.write(c, values))
 		if best == "" || len(written) < len(best) {
 			best = written
 		}

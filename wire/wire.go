@@ -19,6 +19,11 @@ func Join(parts ...string) string {
 	return string(out)
 }
 
+// Byte is one byte.
+func Byte(b byte) string {
+	return string([]byte{b})
+}
+
 // Two is the document's [n]; it is asked only for numbers from 0 to 65535.
 func Two(n int) string {
 	return string([]byte{byte(n), byte(n >> 8)})

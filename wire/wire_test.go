@@ -18,6 +18,14 @@ func TestJoin(t *testing.T) {
 	}
 }
 
+func TestByte(t *testing.T) {
+	for b := range 256 {
+		if got := Byte(byte(b)); len(got) != 1 || got[0] != byte(b) {
+			t.Errorf("Byte(%d) = %q", b, got)
+		}
+	}
+}
+
 func TestTwo(t *testing.T) {
 	for _, c := range []struct {
 		n    int
