@@ -31,7 +31,7 @@ func isCell(kind int, cell api.Cell) bool {
 }
 
 func IsTable(table []api.Column) bool {
-	if !areColumns(table) {
+	if !AreColumns(table) {
 		return false
 	}
 	rows := len(table[0].Cells)
@@ -43,8 +43,8 @@ func IsTable(table []api.Column) bool {
 	return true
 }
 
-// areColumns tells whether some table has these columns, whatever its cells.
-func areColumns(columns []api.Column) bool {
+// AreColumns tells whether some table has these columns, whatever its cells.
+func AreColumns(columns []api.Column) bool {
 	if len(columns) < 1 || len(columns) > api.MaxColumns {
 		return false
 	}
@@ -58,7 +58,7 @@ func areColumns(columns []api.Column) bool {
 
 func isColumn(column api.Column) bool {
 	open := column.Key == 0
-	return isName(column.Name) && IsKind(column.Kind) && (open || isKey(column.Key))
+	return isName(column.Name) && IsKind(column.Kind) && (open || IsKey(column.Key))
 }
 
 func isName(name string) bool {
@@ -82,12 +82,13 @@ func hasName(columns []api.Column, name string) bool {
 	return false
 }
 
-func isKey(number int) bool {
+// IsKey tells whether a key may have this number.
+func IsKey(number int) bool {
 	return number >= 1 && number <= api.MaxKey
 }
 
 func IsPlan(plan api.Plan) bool {
-	return isSize(plan.Group) && isSize(plan.Page) && isKey(plan.Foot)
+	return isSize(plan.Group) && isSize(plan.Page) && IsKey(plan.Foot)
 }
 
 // isSize: a group or a page has room for one row at least, and at most for
@@ -107,7 +108,7 @@ func IsDraw(draw int) bool {
 func IsRing(ring []api.Key) bool {
 	var seen [api.MaxKey + 1]bool
 	for _, key := range ring {
-		if !isKey(key.Number) || seen[key.Number] || len(key.Secret) != api.SecretSize {
+		if !IsKey(key.Number) || seen[key.Number] || len(key.Secret) != api.SecretSize {
 			return false
 		}
 		seen[key.Number] = true

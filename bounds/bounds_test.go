@@ -20,6 +20,7 @@ func TestNumbersFromTo(t *testing.T) {
 		{"foot", 1, 9, func(n int) bool { return IsPlan(api.Plan{Group: 1, Page: 1, Foot: n}) }},
 		{"column's key", 0, 9, func(n int) bool { return IsTable([]api.Column{{Name: "a", Key: n}}) }},
 		{"column's kind", 0, 1, func(n int) bool { return IsTable([]api.Column{{Name: "a", Kind: n}}) }},
+		{"key", 1, 9, IsKey},
 		{"ring's key", 1, 9, func(n int) bool { return IsRing([]api.Key{{Number: n, Secret: "8 bytes."}}) }},
 	} {
 		for _, n := range []int{c.least, c.least + 1, (c.least + c.most) / 2, c.most - 1, c.most} {
@@ -48,6 +49,7 @@ func TestLengthsFromTo(t *testing.T) {
 		{"cells", 0, 60, func(n int) bool { return AreCells(api.Texts, make([]api.Cell, n)) }},
 		{"rows", 0, 60, func(n int) bool { return IsTable([]api.Column{{Name: "a", Cells: make([]api.Cell, n)}}) }},
 		{"columns", 1, 6, func(n int) bool { return IsTable(columns(n)) }},
+		{"columns alone", 1, 6, func(n int) bool { return AreColumns(columns(n)) }},
 	} {
 		for n := range 300 {
 			if want := n >= c.least && n <= c.most; c.may(n) != want {

@@ -9,9 +9,6 @@ import (
 	"coffer/seal"
 )
 
-// A body has two bytes more than its cipher.
-const maxBody = api.MaxLong + 2
-
 // Seal seals a text (P3).
 func Seal(secret, nonce, extra, plain string) (string, api.Errno) {
 	if e := checkSizes(secret, nonce); e != api.OK {
@@ -28,7 +25,7 @@ func Open(secret, nonce, extra, body string) (string, api.Errno) {
 	if e := checkSizes(secret, nonce); e != api.OK {
 		return "", e
 	}
-	if len(extra) > api.MaxLong || len(body) > maxBody {
+	if len(extra) > api.MaxLong || len(body) > seal.MaxBody {
 		return "", api.ErrLong
 	}
 	plain, ok := seal.Plain(secret, nonce, extra, body)
@@ -99,7 +96,17 @@ func checkJob(job api.Job, ring []api.Key) api.Errno {
 
 // Read reads a file (P8, P9).
 func Read(file, prefix string, ring []api.Key, trust bool) ([]api.Found, api.Errno) {
-	return nil, api.OK
+	if !bounds.IsPrefix(prefix) {
+		return nil, api.ErrPlan
+	}
+	if !bounds.IsRing(ring) {
+		return nil, api.ErrKey
+	}
+	sheet, e := readSheet(file, prefix, ring, trust)
+	if e != api.OK {
+		return nil, e
+	}
+	return findColumns(sheet, prefix, ring), api.OK
 }
 
 // Forged gives a forgery away (P10).

@@ -11,9 +11,12 @@ import (
 // the program is held against something other than itself: first all modules
 // are listed, then they are laid one behind the other.
 
+// referenceModule: if it has a text as it stands in the file, the others
+// of its parts are not looked at.
 type referenceModule struct {
 	key          int
 	place, plain string
+	raw          string
 }
 
 func referenceTwo(numbers ...int) string {
@@ -64,11 +67,11 @@ func referenceChunks(job api.Job) [][]referenceModule {
 		for c, column := range job.Table {
 			cells := column.Cells[g*job.Plan.Group:]
 			cells = cells[:min(len(cells), job.Plan.Group)]
-			last := referenceModule{column.Key, "M" + referenceTwo(g, c, 0), referenceMeta(column.Kind, cells)}
+			last := referenceModule{key: column.Key, place: "M" + referenceTwo(g, c, 0), plain: referenceMeta(column.Kind, cells)}
 			var chunk []referenceModule
 			for p := 0; len(cells) > 0; p++ {
 				n := min(len(cells), job.Plan.Page)
-				chunk = append(chunk, referenceModule{column.Key, "P" + referenceTwo(g, c, p), referencePage(column.Kind, cells[:n])})
+				chunk = append(chunk, referenceModule{key: column.Key, place: "P" + referenceTwo(g, c, p), plain: referencePage(column.Kind, cells[:n])})
 				cells = cells[n:]
 			}
 			chunks = append(chunks, append(chunk, last))
@@ -92,37 +95,71 @@ func referenceFooter(job api.Job, places []int) string {
 	return string(out)
 }
 
-func referenceWrite(job api.Job, ring []api.Key) (string, []api.Sealed) {
-	var sealed []api.Sealed
-	lay := func(m referenceModule) string {
-		if m.key == 0 {
-			return referenceTwo(len(m.plain)) + m.plain
-		}
-		at := slices.IndexFunc(ring, func(key api.Key) bool { return key.Number == m.key })
-		nonce := referenceTwo(job.Draw, len(sealed))
-		extra := string(referenceText(nil, job.Prefix)) + m.place
-		body := referenceBody(ring[at].Secret, nonce, extra, m.plain)
-		sealed = append(sealed, api.Sealed{Secret: ring[at].Secret, Nonce: nonce, Extra: extra, Body: body})
-		return referenceTwo(len(body)) + nonce + body
-	}
-	file := "CFE"
+// referenceDraft: a file in its parts, which a test may turn ahead of its
+// being laid out.
+type referenceDraft struct {
+	prefix string
+	draw   int
+	ring   []api.Key
+	head   string
+	chunks [][]referenceModule
+	footer func(places []int) string
+	part   func(footer string) []referenceModule
+	sealed []api.Sealed
+}
+
+func draftOf(job api.Job, ring []api.Key) *referenceDraft {
+	d := &referenceDraft{prefix: job.Prefix, draw: job.Draw, ring: ring, chunks: referenceChunks(job)}
+	foot := job.Plan.Foot
+	d.footer = func(places []int) string { return referenceFooter(job, places) }
 	if job.Plan.Open {
-		file = "CFO"
+		d.head = "CFO" + string(rune(foot))
+		d.part = func(footer string) []referenceModule {
+			return []referenceModule{{plain: footer}, {key: foot, place: "S" + referenceTwo(0, 0, 0) + footer}}
+		}
+	} else {
+		d.head = "CFE" + string(rune(foot))
+		d.part = func(footer string) []referenceModule {
+			return []referenceModule{{key: foot, place: "F" + referenceTwo(0, 0, 0), plain: footer}}
+		}
 	}
-	file += string(rune(job.Plan.Foot))
+	return d
+}
+
+// lay is the module as it is written down.
+func (d *referenceDraft) lay(m referenceModule) string {
+	if m.raw != "" {
+		return m.raw
+	}
+	if m.key == 0 {
+		return referenceTwo(len(m.plain)) + m.plain
+	}
+	at := slices.IndexFunc(d.ring, func(key api.Key) bool { return key.Number == m.key })
+	nonce := referenceTwo(d.draw, len(d.sealed))
+	extra := string(referenceText(nil, d.prefix)) + m.place
+	body := referenceBody(d.ring[at].Secret, nonce, extra, m.plain)
+	d.sealed = append(d.sealed, api.Sealed{Secret: d.ring[at].Secret, Nonce: nonce, Extra: extra, Body: body})
+	return referenceTwo(len(body)) + nonce + body
+}
+
+func (d *referenceDraft) file() string {
+	file := d.head
+	d.sealed = nil
 	var places []int
-	for _, chunk := range referenceChunks(job) {
+	for _, chunk := range d.chunks {
 		places = append(places, len(file))
 		for _, m := range chunk {
-			file += lay(m)
+			file += d.lay(m)
 		}
 	}
-	footer := referenceFooter(job, places)
 	part := ""
-	if job.Plan.Open {
-		part = lay(referenceModule{0, "", footer}) + lay(referenceModule{job.Plan.Foot, "S" + referenceTwo(0, 0, 0) + footer, ""})
-	} else {
-		part = lay(referenceModule{job.Plan.Foot, "F" + referenceTwo(0, 0, 0), footer})
+	for _, m := range d.part(d.footer(places)) {
+		part += d.lay(m)
 	}
-	return file + part + referenceTwo(len(part)) + "CF", sealed
+	return file + part + referenceTwo(len(part)) + "CF"
+}
+
+func referenceWrite(job api.Job, ring []api.Key) (string, []api.Sealed) {
+	d := draftOf(job, ring)
+	return d.file(), d.sealed
 }

@@ -1,5 +1,6 @@
 // Package seal: the sum of a text, and the bodies that are sealed by it.
-// It takes its arguments as they come: the bounds are held at the face.
+// It takes its arguments as they come: the bounds are held at the face. Just
+// those of a body are held here too, as the bodies in a file pass no face.
 package seal
 
 import (
@@ -8,6 +9,12 @@ import (
 )
 
 const tagSize = 2
+
+// A body is as long as its plain text and its tag; no other one is opened.
+const (
+	MinBody = tagSize
+	MaxBody = api.MaxLong + tagSize
+)
 
 // Sum is the sum of the text that the parts make one behind the other.
 func Sum(parts ...string) int {
@@ -33,7 +40,7 @@ func Body(secret, nonce, extra, plain string) string {
 
 // Plain is the plain text that has this body, if one has.
 func Plain(secret, nonce, extra, body string) (string, bool) {
-	if len(body) < tagSize {
+	if len(body) < MinBody || len(body) > MaxBody {
 		return "", false
 	}
 	end := len(body) - tagSize

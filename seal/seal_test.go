@@ -1,6 +1,9 @@
 package seal
 
-import "testing"
+import (
+	"strings"
+	"testing"
+)
 
 func TestSum(t *testing.T) {
 	for _, c := range []struct {
@@ -47,5 +50,17 @@ func TestPlainUndoesBody(t *testing.T) {
 		if got, ok := Plain("secret--", "nonc", "extra", short); got != "" || ok {
 			t.Errorf("Plain of %q = %q, %t", short, got, ok)
 		}
+	}
+}
+
+func TestPlainHoldsTheBoundsOfABody(t *testing.T) {
+	for n, want := range map[int]bool{0: true, 4999: true, 5000: true, 5001: false, 60000: false} {
+		plain := strings.Repeat("x", n)
+		if got, ok := Plain("secret--", "nonc", "", Body("secret--", "nonc", "", plain)); ok != want || ok && got != plain {
+			t.Errorf("a body of a plain text of %d bytes opens: %t", n, ok)
+		}
+	}
+	if MinBody != 2 || MaxBody != 5002 {
+		t.Errorf("a body has %d to %d bytes", MinBody, MaxBody)
 	}
 }

@@ -30,10 +30,26 @@ func (r *Reader) Take(n int) string {
 	return Join(r.text[r.at-n : r.at])
 }
 
+// At is how many bytes were read.
+func (r *Reader) At() int {
+	return r.at
+}
+
+// End gives up if anything is left.
+func (r *Reader) End() {
+	Need(r.at == len(r.text))
+}
+
 func (r *Reader) Byte() byte {
 	Need(r.at < len(r.text))
 	r.at++
 	return r.text[r.at-1]
+}
+
+// Two reads the document's [n].
+func (r *Reader) Two() int {
+	low := r.Byte()
+	return int(low) | int(r.Byte())<<8
 }
 
 // Number reads U of a number.

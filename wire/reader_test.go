@@ -42,6 +42,9 @@ func TestReaderReadsWhatIsWritten(t *testing.T) {
 	for b := range 256 {
 		wantRead(t, string([]byte{byte(b)}), (*Reader).Byte, byte(b))
 	}
+	for _, n := range []int{0, 1, 255, 256, 258, 32768, 65534, 65535} {
+		wantRead(t, Two(n), (*Reader).Two, n)
+	}
 	for _, text := range []string{"", "a", "\x00\xff\x80"} {
 		wantRead(t, text, func(in *Reader) string { return in.Take(len(text)) }, text)
 		wantRead(t, Text(text), func(in *Reader) string { return in.Text(3) }, text)
@@ -73,4 +76,24 @@ func TestReaderHoldsBounds(t *testing.T) {
 	}
 	wantGaveUp(t, "\x03abc", func(in *Reader) string { return in.Text(2) })
 	wantGaveUp(t, Number(1<<63-1)+"abc", func(in *Reader) string { return in.Text(1<<63 - 1) })
+}
+
+func TestReaderTellsWhereItIs(t *testing.T) {
+	end := func(in *Reader) bool {
+		in.End()
+		return true
+	}
+	wantRead(t, "", func(in *Reader) int { return in.At() }, 3)
+	if in := NewReader("some text"); in.Take(4) != "some" || in.At() != 4 || in.Byte() != ' ' || in.At() != 5 {
+		t.Errorf("the reader is at %d", in.At())
+	}
+	wantGaveUp(t, "x", end)
+	wantGaveUp(t, "xyz", func(in *Reader) bool { return in.Take(2) == "xy" && end(in) })
+	for _, text := range []string{"", "xyz"} {
+		in := NewReader(text)
+		in.Take(len(text))
+		if !end(in) || in.At() != len(text) {
+			t.Errorf("at the end of %q the reader is at %d", text, in.At())
+		}
+	}
 }
