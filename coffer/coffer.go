@@ -96,12 +96,6 @@ func checkJob(job api.Job, ring []api.Key) api.Errno {
 
 // Read reads a file (P8, P9).
 func Read(file, prefix string, ring []api.Key, trust bool) ([]api.Found, api.Errno) {
-	if !bounds.IsPrefix(prefix) {
-		return nil, api.ErrPlan
-	}
-	if !bounds.IsRing(ring) {
-		return nil, api.ErrKey
-	}
 	sheet, e := readSheet(file, prefix, ring, trust)
 	if e != api.OK {
 		return nil, e
@@ -111,5 +105,17 @@ func Read(file, prefix string, ring []api.Key, trust bool) ([]api.Found, api.Err
 
 // Forged gives a forgery away (P10).
 func Forged(jobs []api.Job, ring []api.Key, file, prefix string) (api.Sealed, api.Errno) {
-	return api.Sealed{}, api.OK
+	known, e := sealJobs(jobs, ring)
+	if e != api.OK {
+		return api.Sealed{}, e
+	}
+	sheet, e := readSheet(file, prefix, ring, false)
+	if e != api.OK {
+		return api.Sealed{}, api.ErrCalm
+	}
+	found := findColumns(sheet, prefix, ring)
+	if isWritten(found, prefix, jobs) {
+		return api.Sealed{}, api.ErrCalm
+	}
+	return findStrange(openedSeals(sheet, found, prefix, ring), known)
 }

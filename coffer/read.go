@@ -2,10 +2,17 @@ package coffer
 
 import (
 	"coffer/api"
+	"coffer/bounds"
 	"coffer/files"
 )
 
 func readSheet(file, prefix string, ring []api.Key, trust bool) (files.Sheet, api.Errno) {
+	if !bounds.IsPrefix(prefix) {
+		return files.Sheet{}, api.ErrPlan
+	}
+	if !bounds.IsRing(ring) {
+		return files.Sheet{}, api.ErrKey
+	}
 	form, ok := attempt(func() files.Form { return files.ReadForm(file) })
 	switch {
 	case !ok:

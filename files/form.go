@@ -77,11 +77,14 @@ func (f *Form) readFoot(in *wire.Reader) {
 // Unlock is the footer, if the secret opens it or, where it is told openly,
 // its sign.
 func (f Form) Unlock(secret, prefix string) (string, bool) {
-	// A sealed footer has none that is told openly behind its place.
-	extra := f.foot.extra(prefix, f.Footer)
-	plain, ok := seal.Plain(secret, f.foot.nonce, extra, f.foot.text)
+	plain, ok := seal.Plain(secret, f.foot.nonce, f.footExtra(prefix), f.foot.text)
 	if f.Open {
 		return f.Footer, ok && plain == ""
 	}
 	return plain, ok
+}
+
+// footExtra: a sealed footer has none that is told openly behind its place.
+func (f Form) footExtra(prefix string) string {
+	return f.foot.extra(prefix, f.Footer)
 }

@@ -88,6 +88,27 @@ func TestSheetHasTheColumns(t *testing.T) {
 	}
 }
 
+// What is told as sealed of a file that was read is what was told of it when
+// it was written.
+func TestSheetTellsWhatWasSealed(t *testing.T) {
+	for _, open := range []bool{false, true} {
+		job := rows
+		job.Plan.Open = open
+		file, want := Write(job, ring)
+		form := ReadForm(file)
+		footer, _ := form.Unlock("secret-3", "pre")
+		sheet := form.Sheet(footer)
+		got := append(sheet.SealedColumn(0, ring, "pre"), sheet.SealedFoot(ring, "pre"))
+		if !slices.Equal(got, want) {
+			t.Errorf("%q is told as sealed, want %q", got, want)
+		}
+		// A prefix is told as it was asked for.
+		if foot := sheet.SealedFoot(ring, "prf"); !strings.HasPrefix(foot.Extra, "\x03prf") {
+			t.Errorf("under another prefix %q is told", foot)
+		}
+	}
+}
+
 func TestReadFooterUndoesText(t *testing.T) {
 	f := footer{
 		rows:    3,

@@ -10,6 +10,7 @@ import (
 
 // Sheet: what a footer tells, and the chunks of which it tells.
 type Sheet struct {
+	form Form
 	footer
 	chunks [][]chunk // of each column those of all groups
 }
@@ -25,7 +26,7 @@ type chunk struct {
 // It gives up, as wire does, at what is no footer and at modules that do not
 // stand so.
 func (f Form) Sheet(text string) Sheet {
-	sheet := Sheet{footer: readFooter(text, f.Foot)}
+	sheet := Sheet{form: f, footer: readFooter(text, f.Foot)}
 	in := wire.NewReader(f.ahead)
 	in.Take(headSize)
 	sheet.readChunks(in)
